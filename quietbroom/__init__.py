@@ -1,0 +1,1 @@
+"""Quietbroom: a virtual machine whose moving, incremental garbage collector cannot be noticed."""
