@@ -19,6 +19,27 @@ FUNCTIONS = {
     "octets": {"encode_number": "n", "decode_number": "octets at"},
     "packing": {"pack": "program"},
     "unpacking": {"unpack": "octets"},
+    "flow": {"successors": "function place", "runs_off": "function place"},
+    "kinds": {
+        "entry_state": "function", "kinds_after": "program function place state", "merged": "one two", "fits": "one two",
+    },
+    "checker": {"refusal": "program", "check": "program", "kind_tables": "program"},
+    "judges": {"is_table": "program number table", "is_refusal": "program refusal"},
+    "graphs": {
+        "held_order": "rows objects", "held_words": "rows objects", "strong_set": "program rows objects",
+        "program_settling": "program rows watched parted objects",
+    },
+    "pictures": {"picture_of": "statics frames watched parted objects"},
+    "headers": {
+        "form_word": "shape_number length", "state_word": "colour remembered forward", "shape_number_of": "word",
+        "length_of": "word", "colour_of": "word", "remembered_of": "word", "forward_of": "word",
+    },
+    "heaps": {"blocks": "heap low high", "snapshot": "heap"},
+    "barriers": {
+        "resolve": "heap address", "resolve_word": "heap word", "read_word": "heap address place",
+        "write_word": "heap address place word",
+    },
+    "young": {"collect_young": "heap rows"},
 }
 METHODS = {
     ("shapes", "Shape"): {"__init__": "self name form fields", "kind_of": "self place", "blank": "self length"},
@@ -27,6 +48,14 @@ METHODS = {
         "static_number": "self name", "function_number": "self name",
     },
     ("programs", "Function"): {},
+    ("pictures", "Picture"): {
+        "__init__": "self statics frames watched parted objects", "rows": "self", "__eq__": "self other",
+    },
+    ("plain", "PlainMachine"): {
+        "__init__": "self program arguments limit", "advance": "self", "picture": "self", "held_words": "self",
+        "birth_numbers": "self",
+    },
+    ("heaps", "Heap"): {"__init__": "self capacity nursery", "used": "self"},
 }
 
 
@@ -49,6 +78,11 @@ class InterfaceTest(unittest.TestCase):
             for method, arguments in methods.items():
                 self.assertIn(method, vars(some), name)
                 self.assertEqual(list(inspect.signature(vars(some)[method]).parameters), arguments.split(), method)
+
+    def test_what_is_passed_by_name_alone(self):
+        parameters = inspect.signature(importlib.import_module("quietbroom.plain").PlainMachine).parameters
+        self.assertEqual([(parameter.kind.name, parameter.default) for parameter in parameters.values()], [
+            ("POSITIONAL_OR_KEYWORD", inspect.Parameter.empty), ("POSITIONAL_OR_KEYWORD", ()), ("KEYWORD_ONLY", None)])
 
     def test_init_file_is_empty_but_for_a_docstring(self):
         folder = pathlib.Path(quietbroom.__file__).parent

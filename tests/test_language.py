@@ -22,7 +22,7 @@ METHODS = set(
     "append clear copy count endswith extend find get index insert isalnum isalpha isdigit islower isspace isupper "
     "items join keys ljust lower lstrip partition pop remove replace reverse rfind rjust rpartition rsplit rstrip "
     "setdefault split splitlines startswith strip update upper values zfill bit_length removeprefix removesuffix "
-    "rindex add discard sort".split()
+    "rindex add discard".split()
 )
 BARRED = (
     ast.AsyncFunctionDef, ast.AsyncFor, ast.AsyncWith, ast.Await, ast.Global, ast.Import, ast.Div, ast.MatMult,
@@ -117,6 +117,13 @@ class NamesTest(unittest.TestCase):
                     stored = {part.id for part in ast.walk(node)
                               if isinstance(part, ast.Name) and isinstance(part.ctx, ast.Store)}
                     self.assertEqual(stored & set(bound), set(), name)
+
+    def test_no_name_is_a_method_and_an_attribute_of_one_class(self):
+        for name, node in nodes(ast.ClassDef):
+            methods = {part.name for part in node.body if isinstance(part, ast.FunctionDef)}
+            attributes = {part.attr for part in ast.walk(node)
+                          if isinstance(part, ast.Attribute) and isinstance(part.ctx, ast.Store)}
+            self.assertEqual(methods & attributes, set(), (name, node.name))
 
     def test_used_builtins(self):
         for name, node in nodes(ast.Name):
