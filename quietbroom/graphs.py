@@ -6,14 +6,21 @@ from quietbroom.words import NIL, address_of, is_reference
 
 def held_order(rows, objects):
     """The numbers of the held objects, in the order in which they are met."""
+    def payload_of(number):
+        return objects[number][1]
+
+    return met_order(rows, payload_of)
+
+
+def met_order(rows, payload_of):
+    """The numbers of the objects that are met from the rows on, by a function that tells an object's payload."""
     order = []
     met = {}
     for row in rows:
         meet(row, order, met)
     at = 0
     while at < len(order):
-        _, payload = objects[order[at]]
-        meet(payload, order, met)
+        meet(payload_of(order[at]), order, met)
         at += 1
     return tuple(order)
 
@@ -66,12 +73,22 @@ def strong_set(program, rows, objects):
 
 def program_settling(program, rows, watched, parted, objects):
     """What a settling makes of the watched list, the parted list and the objects."""
-    numbers = strong_set(program, (*rows, parted), objects)
-    strong = {number: True for number in numbers}
+    strong = strong_table(program, (*rows, parted), objects)
+    stays, parts = parting(watched, strong)
+    settled = [(name, settled_payload(program.shape(name), payload, strong)) for name, payload in objects]
+    return stays, (*parted, *parts), tuple(settled)
+
+
+def strong_table(program, rows, objects):
+    """The numbers of the objects that the rows hold strongly, as the keys of a dict."""
+    return {number: True for number in strong_set(program, rows, objects)}
+
+
+def parting(watched, strong):
+    """The watched references that stay and those that part when these objects are held strongly."""
     stays = [word for word in watched if address_of(word) - 1 in strong]
     parts = [word for word in watched if address_of(word) - 1 not in strong]
-    settled = [(name, settled_payload(program.shape(name), payload, strong)) for name, payload in objects]
-    return tuple(stays), (*parted, *parts), tuple(settled)
+    return tuple(stays), tuple(parts)
 
 
 def settled_payload(shape, payload, strong):

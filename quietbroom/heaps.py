@@ -48,6 +48,12 @@ def block_size(heap, address):
     return size_of(length_of(heap.words[address]))
 
 
+def payload_span(heap, address):
+    """Where the payload of the block at an address begins, and where it ends."""
+    low = address + HEADER_WORDS
+    return low, low + length_of(heap.words[address])
+
+
 def claim_old(heap, size):
     """Takes as many words of the old space that grows in this phase; returns their address."""
     if is_copying(heap):

@@ -1,8 +1,8 @@
 """Collects the young blocks: what is held of them goes to an old space, and the nursery is empty."""
 
 from quietbroom.barriers import resolve
-from quietbroom.headers import GRAY, WHITE, colour_of, forward_of, length_of, state_word
-from quietbroom.heaps import HEADER_WORDS, block_size, claim_old, is_young
+from quietbroom.headers import GRAY, WHITE, colour_of, forward_of, state_word
+from quietbroom.heaps import block_size, claim_old, is_young, payload_span
 from quietbroom.words import address_of, is_reference, reference_word
 
 
@@ -27,8 +27,8 @@ def collect_young(heap, rows):
 
 def promote_payload(heap, block, promoted):
     """Promotes what the payload of a block refers to."""
-    low = block + HEADER_WORDS
-    promote_words(heap, heap.words, low, low + length_of(heap.words[block]), promoted)
+    low, high = payload_span(heap, block)
+    promote_words(heap, heap.words, low, high, promoted)
 
 
 def promote_words(heap, words, low, high, promoted):
