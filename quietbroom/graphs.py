@@ -42,7 +42,12 @@ def held_words(rows, objects):
 
 def words_of(numbers, objects):
     """The sum of the sizes of the objects with these numbers."""
-    return sum([size_of(len(objects[number][1])) for number in numbers])
+    return all_words([objects[number] for number in numbers])
+
+
+def all_words(objects):
+    """The sum of the sizes of all these objects."""
+    return sum([size_of(len(payload)) for _, payload in objects])
 
 
 def strong_set(program, rows, objects):

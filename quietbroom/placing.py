@@ -17,8 +17,14 @@ def place_block(heap, rows, shape_number, payload):
         # It refers to nothing, so there is nothing to mark from it.
         if heap.phase == "marking":
             colour = BLACK
-    heap.words[address:address + size] = [form_word(shape_number, len(payload)), state_word(colour, 0, 0), *payload]
+    write_block(heap, address, shape_number, colour, payload)
     return address
+
+
+def write_block(heap, address, shape_number, colour, payload):
+    """Writes the words of a new block at an address."""
+    header = [form_word(shape_number, len(payload)), state_word(colour, 0, 0)]
+    heap.words[address:address + size_of(len(payload))] = [*header, *payload]
 
 
 def claim_young(heap, rows, size):

@@ -44,12 +44,20 @@ FUNCTIONS = {
     "cycle": {"collect": "heap rows", "finish": "heap rows", "collect_all": "heap rows"},
     "settling": {"heap_settling": "heap program rows watched parted"},
     "running": {"run": "machine schedule fuel", "room_for_pace": "held largest pace"},
+    "images": {"write_image": "picture", "read_image": "text"},
+    "fitting": {"picture_fault": "program picture"},
+    "resuming": {"resume": "program picture capacity nursery pace", "resume_plain": "program picture limit"},
+    "ways": {"follow": "picture way", "way_to": "picture number", "referrers": "picture number"},
+    "keepers": {"keepers": "picture", "two_ways": "picture number", "kept_words": "picture number"},
+    "accounts": {"account": "program picture", "loose": "program picture", "settled_picture": "program picture"},
 }
 # What is passed by name alone, with the default values of all that has one.
 BY_NAME = {
     ("plain", "PlainMachine"): ({"limit"}, {"arguments": (), "limit": None}),
     ("machine", "Machine"): ({"capacity", "nursery", "pace"}, {"arguments": (), "nursery": 0, "pace": 0}),
     ("running", "run"): ({"fuel"}, {"schedule": ()}),
+    ("resuming", "resume"): ({"capacity", "nursery", "pace"}, {"nursery": 0, "pace": 0}),
+    ("resuming", "resume_plain"): ({"limit"}, {"limit": None}),
 }
 METHODS = {
     ("shapes", "Shape"): {"__init__": "self name form fields", "kind_of": "self place", "blank": "self length"},
