@@ -36,10 +36,11 @@ def found_trail(targets_of, arcs, source, target):
     queue = [(AT, source)]
     at = 0
     while (AT, target) not in origins:
-        for state in states_behind(targets_of, arcs, before, queue[at]):
-            if state not in origins:
-                origins[state] = queue[at]
-                queue.append(state)
+        state = queue[at]
+        for following in states_behind(targets_of, arcs, before, state):
+            if following not in origins:
+                origins[following] = state
+                queue.append(following)
         at += 1
     trail = [(AT, target)]
     while trail[-1] != (AT, source):

@@ -9,7 +9,7 @@ from quietbroom.cycle import collect, collect_all, finish
 from quietbroom.heaps import Heap, blocks, snapshot
 from quietbroom.placing import place_block
 from quietbroom.young import collect_young
-from tests.memory import BLACK, GRAY, WHITE, header, payload, put, swapped
+from tests.memory import BLACK, GRAY, WHITE, header, payload, swapped
 from tests.rules import check_memory
 
 

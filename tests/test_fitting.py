@@ -7,7 +7,6 @@ from quietbroom.checker import kind_tables
 from quietbroom.fitting import picture_fault
 from quietbroom.pictures import Picture
 from quietbroom.plain import PlainMachine
-from quietbroom.running import run
 from tests.samples import as_lists
 
 LOW, HIGH = -2147483648, 2147483647

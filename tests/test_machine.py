@@ -12,7 +12,7 @@ from quietbroom.machine import Machine
 from quietbroom.operations import OPERATIONS
 from quietbroom.pictures import Picture
 from tests.alike import Both
-from tests.memory import header, payload
+from tests.memory import payload
 from tests.test_plain import main
 from tests.test_plain_objects import HEAD
 
